@@ -1,0 +1,116 @@
+"""What the tests share: sample rows and blocks, a look that watches, and plain walks to hold answers against."""
+
+import unittest
+
+from thinwood.errors import (
+    NoBit,
+    NoNode,
+    NoOctets,
+    NoPlace,
+    NoSign,
+    NoTree,
+    NoWord,
+    TooMany,
+    Twice,
+    WoodError,
+)
+
+REFUSALS = (TooMany, NoBit, NoPlace, NoNode, NoTree, NoSign, NoWord, Twice, NoOctets)
+
+FULL = 2 ** 32 - 1
+
+# The most figures of which something is promised.
+GREAT = 10 ** 300 - 1
+
+LENGTHS = (0, 1, 2, 5, 31, 32, 33, 63, 64, 65, 100, 127, 128, 129, 1000, 2048, 4063, 4064, 4065, 4095, 4096)
+
+
+class Case(unittest.TestCase):
+    def same(self, told, asked, note=None):
+        """Equal, and of the same kinds all the way down: True is not 1, a tuple is not a list."""
+        self.assertEqual(told, asked, note)
+        self.assertEqual(kinds(told), kinds(asked), note)
+
+    def refused(self, refusal, function, *arguments):
+        try:
+            told = function(*arguments)
+        except WoodError as error:
+            self.assertIsInstance(error, refusal)
+            for other in REFUSALS:
+                if other is not refusal:
+                    self.assertNotIsInstance(error, other)
+        else:
+            self.fail(f"{function.__name__} told {told!r} and did not refuse with {refusal.__name__}")
+
+
+def kinds(value):
+    if isinstance(value, (list, tuple)):
+        return (type(value), [kinds(one) for one in value])
+    return type(value)
+
+
+class WatchedLook:
+    """A look that fails on a block that isn't there, and remembers which blocks were asked for."""
+
+    def __init__(self, blocks):
+        self.blocks = tuple(blocks)
+        self.seen = set()
+
+    def __call__(self, number):
+        if type(number) is not int or not 0 <= number < len(self.blocks):
+            raise AssertionError(f"block {number!r} was asked for, of {len(self.blocks)}")
+        self.seen.add(number)
+        return self.blocks[number]
+
+
+def numbers_from(seed):
+    """A row of numbers below 2 ** 32 without end, the same at each run."""
+    state = seed
+    while True:
+        state = (state * 6364136223846793005 + 1442695040888963407) % 2 ** 64
+        yield state // 2 ** 32
+
+
+def mixed_row(many, seed, of_a_hundred=50):
+    source = numbers_from(seed)
+    return [1 if next(source) % 100 < of_a_hundred else 0 for k in range(many)]
+
+
+def sample_rows():
+    for many in LENGTHS:
+        yield [0] * many
+        yield [1] * many
+        yield [k % 2 for k in range(many)]
+        # Whole blocks of one kind between others: many blocks have the same count ahead.
+        yield [1 - k // 64 % 2 for k in range(many)]
+        yield mixed_row(many, many + 1)
+        yield mixed_row(many, many + 2, 3)
+        yield mixed_row(many, many + 3, 97)
+        if many > 0:
+            yield [0] * (many - 1) + [1]
+            yield [1] * (many - 1) + [0]
+
+
+def sample_blocks():
+    blocks = [0, FULL, 1, 2, 3, 2 ** 31, 2 ** 31 - 1, FULL - 1, FULL // 3, FULL // 3 * 2, 65535, FULL - 65535]
+    blocks.extend(2 ** k for k in range(32))
+    blocks.extend(FULL - 2 ** k for k in range(32))
+    source = numbers_from(3)
+    blocks.extend(next(source) for k in range(40))
+    return blocks
+
+
+def block_bits(block):
+    return [block // 2 ** k % 2 for k in range(32)]
+
+
+def plain_blocks(bits):
+    blocks = [0] * ((len(bits) + 31) // 32)
+    for i, bit in enumerate(bits):
+        blocks[i // 32] += bit * 2 ** (i % 32)
+    return blocks
+
+
+def plain_tables(bits):
+    ahead = [sum(bits[:at]) for at in range(0, len(bits), 32)]
+    return (len(bits), tuple(ahead + [sum(bits)]))

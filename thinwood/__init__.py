@@ -1,0 +1,1 @@
+"""Thinwood: great trees and rows kept thin."""
