@@ -1,4 +1,4 @@
-"""Holds the package against those rules of ../shared/LANGUAGE.md that can be read off its syntax."""
+"""Holds the package against a part of ../shared/LANGUAGE.md: names, imports, sizes, signs and kinds of syntax."""
 
 import ast
 import builtins
