@@ -1,4 +1,4 @@
-"""What the tests share: sample rows and blocks, a look that watches, and plain walks to hold answers against."""
+"""What the tests share: sample rows, blocks and trees, a look that watches, and plain walks to hold answers against."""
 
 import unittest
 
@@ -50,15 +50,16 @@ def kinds(value):
 
 
 class WatchedLook:
-    """A look that fails on a block that isn't there, and remembers which blocks were asked for."""
+    """A look that fails on a block (or node) that isn't there, and remembers which ones were asked for."""
 
-    def __init__(self, blocks):
+    def __init__(self, blocks, first=0):
         self.blocks = tuple(blocks)
+        self.first = first
         self.seen = set()
 
     def __call__(self, number):
-        if type(number) is not int or not 0 <= number < len(self.blocks):
-            raise AssertionError(f"block {number!r} was asked for, of {len(self.blocks)}")
+        if type(number) is not int or not self.first <= number < len(self.blocks):
+            raise AssertionError(f"block or node {number!r} was asked for, of {self.first} to {len(self.blocks) - 1}")
         self.seen.add(number)
         return self.blocks[number]
 
@@ -114,3 +115,78 @@ def plain_blocks(bits):
 def plain_tables(bits):
     ahead = [sum(bits[:at]) for at in range(0, len(bits), 32)]
     return (len(bits), tuple(ahead + [sum(bits)]))
+
+
+def mixed_depths(many, seed, deeper=50):
+    """A tree whose nodes stand, so many of a hundred times, one deeper than the node ahead."""
+    source = numbers_from(seed)
+    depths = [0]
+    while len(depths) < many:
+        if depths[-1] == 0 or next(source) % 100 < deeper:
+            depths.append(depths[-1] + 1)
+        else:
+            depths.append(next(source) % depths[-1] + 1)
+    return depths
+
+
+def sample_trees(counts):
+    """Lists of depths: for each count of nodes a chain, many young of one node, and others between the two."""
+    for many in counts:
+        yield list(range(many))
+        yield [0] + [1] * (many - 1)
+        # Young of one node, each with a chain beneath it: brackets end at every distance from a block's end.
+        yield [0] + [k % 11 + 1 for k in range(many - 1)]
+        # A chain, and behind it young of its last node.
+        yield list(range(many // 2 + 1)) + [many // 2 + 1] * (many - many // 2 - 1)
+        # A chain that goes down step by step again.
+        yield list(range(many - many // 2)) + list(range(many // 2, 0, -1))
+        # The more often a node stands deeper than the one ahead, the deeper the tree.
+        for deeper in (50, 90, 98):
+            yield mixed_depths(many, many + deeper, deeper)
+
+
+def all_trees(many):
+    """Each tree of so many nodes, once."""
+    if many == 1:
+        return [[0]]
+    return [depths + [depth] for depths in all_trees(many - 1) for depth in range(1, depths[-1] + 2)]
+
+
+def plain_brackets(depths):
+    """An opening bracket for each node, and ahead of it a closing one for each node that the next one isn't beneath."""
+    bits = []
+    unclosed = []
+    for depth in depths:
+        while unclosed and unclosed[-1] >= depth:
+            unclosed.pop()
+            bits.append(0)
+        unclosed.append(depth)
+        bits.append(1)
+    return bits + [0] * len(unclosed)
+
+
+def plain_heights(bits):
+    """The height at each place from 0 to the number of bits."""
+    heights = [0]
+    for bit in bits:
+        heights.append(heights[-1] + (1 if bit == 1 else -1))
+    return heights
+
+
+def plain_heap(numbers):
+    size = 1
+    while size < len(numbers):
+        size *= 2
+    nodes = [None]
+    width = size
+    while width >= 1:
+        for start in range(0, size, width):
+            nodes.append(min(numbers[start:start + width], default=None))
+        width //= 2
+    return nodes
+
+
+def plain_bracket_tables(bits):
+    heights = plain_heights(bits)
+    lows = [min(heights[at + 1:at + 33]) for at in range(0, len(bits), 32)]
+    return plain_tables(bits) + (tuple(plain_heap(lows)),)
