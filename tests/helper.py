@@ -42,6 +42,14 @@ class Case(unittest.TestCase):
         else:
             self.fail(f"{function.__name__} told {told!r} and did not refuse with {refusal.__name__}")
 
+    def answered(self, kept, question, asked_for, answer, most):
+        """The answer, its kind, and the blocks looked at: only such as are there, and no more than told."""
+        look = WatchedLook(kept.blocks)
+        told = question(kept.tables, look, *asked_for)
+        if told != answer or type(told) is not type(answer):
+            self.fail((question.__name__, kept.bits, asked_for, told, answer))
+        self.assertLessEqual(len(look.seen), most, (question.__name__, kept.bits, asked_for))
+
 
 def kinds(value):
     if isinstance(value, (list, tuple)):
@@ -190,3 +198,81 @@ def plain_bracket_tables(bits):
     heights = plain_heights(bits)
     lows = [min(heights[at + 1:at + 33]) for at in range(0, len(bits), 32)]
     return plain_tables(bits) + (tuple(plain_heap(lows)),)
+
+
+class PlainTree:
+    """A tree, with what a plain walk over the list of its depths tells."""
+
+    def __init__(self, depths):
+        self.depths = list(depths)
+        self.count = len(depths)
+        self.bits = plain_brackets(depths)
+        self.tables = plain_bracket_tables(self.bits)
+        self.blocks = plain_blocks(self.bits)
+        self.walk_families()
+        self.walk_brackets()
+
+    def walk_families(self):
+        self.elders = []
+        self.young = [[] for node in self.depths]
+        self.younger = [None] * self.count
+        self.older = [None] * self.count
+        latest = {}
+        for node, depth in enumerate(self.depths):
+            elder = latest.get(depth - 1)
+            self.elders.append(elder)
+            latest[depth] = node
+            if elder is not None:
+                if self.young[elder]:
+                    self.older[node] = self.young[elder][-1]
+                    self.younger[self.older[node]] = node
+                self.young[elder].append(node)
+        self.beneath = [0] * self.count
+        for node in reversed(range(1, self.count)):
+            self.beneath[self.elders[node]] += self.beneath[node] + 1
+
+    def walk_brackets(self):
+        """For each place the node and whether its opening bracket stands there; for each node its two places."""
+        self.brackets = []
+        self.openings = []
+        self.closings = [None] * self.count
+        unclosed = []
+        for place, bit in enumerate(self.bits):
+            if bit == 1:
+                unclosed.append(len(self.openings))
+                self.brackets.append((unclosed[-1], True))
+                self.openings.append(place)
+            else:
+                self.brackets.append((unclosed[-1], False))
+                self.closings[unclosed.pop()] = place
+
+    def first(self, node):
+        return self.young[node][0] if self.young[node] else None
+
+    def line(self, node):
+        """The node, its elder, the elder's elder and so on up to the root."""
+        nodes = []
+        while node is not None:
+            nodes.append(node)
+            node = self.elders[node]
+        return nodes
+
+    def common(self, one, other):
+        both = set(self.line(one)) & set(self.line(other))
+        return max(both, key=lambda node: self.depths[node])
+
+    def no_nodes(self):
+        """Numbers just beyond, far beyond and below nought."""
+        many = self.count
+        beyond = [many, many + 1, many + 31, many + 32, 2 * many, 2 * many + 1, 5000, 2 ** 32, GREAT]
+        below = [-1, -2, -32, -many, -many - 1, -2 * many, -5000, -(2 ** 32), -GREAT]
+        return beyond + below
+
+    def picked(self, most):
+        """All nodes where there are few; else some all over, those with brackets by the ends of blocks among them."""
+        if self.count <= most:
+            return list(range(self.count))
+        ends = [0, 1, 2, self.count - 2, self.count - 1]
+        near = [node for node in range(self.count)
+                if self.openings[node] % 32 in (30, 31, 0, 1) or self.closings[node] % 32 in (30, 31, 0, 1)]
+        return sorted(set(ends + near[::len(near) // most + 1] + list(range(7, self.count, self.count // 8))))

@@ -214,12 +214,7 @@ class KeptBrackets(Case):
 
 class Questions(Case):
     def hold(self, tree, question, asked_for, answer):
-        """The answer, its kind, and the blocks: only such as are there, and no more than told."""
-        look = WatchedLook(tree.blocks)
-        told = question(tree.tables, look, *asked_for)
-        if told != answer or type(told) is not type(answer):
-            self.fail((question.__name__, tree.bits, asked_for, told, answer))
-        self.assertLessEqual(len(look.seen), 1 if question is height else 4, (question.__name__, asked_for))
+        self.answered(tree, question, asked_for, answer, 1 if question is height else 4)
 
     def hold_goal(self, tree, at, goal):
         behind = [k for k in range(at + 1, tree.many + 1) if tree.heights[k] <= goal]

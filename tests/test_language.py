@@ -1,4 +1,4 @@
-"""Holds the package against a part of ../shared/LANGUAGE.md: names, imports, sizes, signs and kinds of syntax."""
+"""Holds the package against a part of ../shared/LANGUAGE.md: names, imports, sizes, signs, syntax and classes."""
 
 import ast
 import builtins
@@ -45,6 +45,11 @@ METHODS = set(
     " setdefault split splitlines startswith strip update upper values zfill bit_length".split()
 )
 TWO_UNDERSCORES = set("__init__ __eq__ __repr__ __str__ __len__".split())
+
+# L26: which of the names of Python's own values an own method, or a value of an object, may bear.
+PYTHONS = {name for kind in (str, int, list, tuple, dict, set, frozenset, bytes) for name in dir(kind)}
+FREE_METHODS = METHODS | {"add", "discard"} | TWO_UNDERSCORES
+FREE_VALUES = set("count index title find get join lower upper split strip copy add".split())
 
 
 def bound_names(tree):
@@ -167,6 +172,47 @@ class Language(unittest.TestCase):
             self.assertLessEqual(len(node.bases), 1, where)
             for part in node.body:
                 self.assertIsInstance(part, (ast.FunctionDef, ast.Pass), where)
+
+    def methods_of(self, node):
+        return [part.name for part in node.body if isinstance(part, ast.FunctionDef)]
+
+    def test_methods_and_values_of_objects(self):
+        methods = set()
+        for where, node in self.each(ast.ClassDef):
+            names = self.methods_of(node)
+            self.assertEqual(len(names), len(set(names)), where)
+            methods.update(names)
+        for name in methods:
+            self.assertTrue(name not in PYTHONS or name in FREE_METHODS, name)
+        for where, node in self.each(ast.Attribute):
+            if isinstance(node.ctx, ast.Store):
+                self.assertNotIn(node.attr, methods, where)
+                self.assertTrue(node.attr not in PYTHONS or node.attr in FREE_VALUES, where)
+                self.assertIsInstance(node.value, ast.Name, where)
+
+    def test_where_classes_stand(self):
+        classes = {node.name for where, node in self.each(ast.ClassDef)} | {"ValueError"}
+        allowed = set()
+        for where, node in self.each(ast.ClassDef):
+            allowed.update(node.bases)
+        for where, node in self.each(ast.Call):
+            allowed.add(node.func)
+            if isinstance(node.func, ast.Name) and node.func.id == "isinstance":
+                allowed.update(ast.walk(node.args[1]))
+            if isinstance(node.func, ast.Attribute) and node.func.attr == "__init__":
+                allowed.add(node.func.value)
+        for where, node in self.each(ast.ExceptHandler):
+            allowed.update(ast.walk(node.type))
+        for where, node in self.each(ast.Name):
+            if node.id in classes:
+                self.assertIn(node, allowed, where)
+
+    def test_remarks_of_defs_are_no_texts(self):
+        # L6 lists a call as the one thing that stands by itself; a module's docstring is L3's.
+        for path, tree in self.trees.items():
+            for node in ast.walk(tree):
+                if isinstance(node, ast.Expr) and node is not tree.body[0]:
+                    self.assertIsInstance(node.value, ast.Call, f"{path.name}:{node.lineno}")
 
     def test_names(self):
         for path, tree in self.trees.items():
