@@ -1,4 +1,4 @@
-"""What the tests share: sample rows, blocks and trees, a look that watches, and plain walks to hold answers against."""
+"""What the tests share: sample rows, trees, signs and words, a look that watches, and plain walks to hold answers to."""
 
 import unittest
 
@@ -46,9 +46,10 @@ class Case(unittest.TestCase):
         """The answer, its kind, and the blocks looked at: only such as are there, and no more than told."""
         look = WatchedLook(kept.blocks)
         told = question(kept.tables, look, *asked_for)
-        if told != answer or type(told) is not type(answer):
-            self.fail((question.__name__, kept.bits, asked_for, told, answer))
-        self.assertLessEqual(len(look.seen), most, (question.__name__, kept.bits, asked_for))
+        if told != answer or kinds(told) != kinds(answer):
+            self.fail((question.__name__, kept.tables, kept.blocks, asked_for, told, answer))
+        if len(look.seen) > most:
+            self.fail((question.__name__, kept.tables, kept.blocks, asked_for, f"{len(look.seen)} blocks of {most}"))
 
 
 def kinds(value):
@@ -58,14 +59,21 @@ def kinds(value):
 
 
 class WatchedLook:
-    """A look that fails on a block (or node) that isn't there, and remembers which ones were asked for."""
+    """A look that fails on a block (or node) that isn't there, and remembers which ones were asked for.
+
+    It fails, too, when it is asked so often that whoever asks doesn't seem to come to an end.
+    """
 
     def __init__(self, blocks, first=0):
         self.blocks = tuple(blocks)
         self.first = first
         self.seen = set()
+        self.asked = 0
 
     def __call__(self, number):
+        self.asked += 1
+        if self.asked > 5000000:
+            raise AssertionError("a look was asked without end")
         if type(number) is not int or not self.first <= number < len(self.blocks):
             raise AssertionError(f"block or node {number!r} was asked for, of {self.first} to {len(self.blocks) - 1}")
         self.seen.add(number)
@@ -276,3 +284,174 @@ class PlainTree:
         near = [node for node in range(self.count)
                 if self.openings[node] % 32 in (30, 31, 0, 1) or self.closings[node] % 32 in (30, 31, 0, 1)]
         return sorted(set(ends + near[::len(near) // most + 1] + list(range(7, self.count, self.count // 8))))
+
+
+def mixed_signs(many, kinds, seed):
+    """So many signs of at most so many kinds, some of them below nought and not all of them side by side."""
+    source = numbers_from(seed)
+    return [next(source) % kinds * 3 - kinds for k in range(many)]
+
+
+def sample_signs(lengths, kind_counts):
+    """Rows of signs: none, one kind alone, just so many kinds, all unlike, in long runs, and by the bounds."""
+    yield []
+    for many in lengths:
+        yield [7] * many
+        yield list(range(many))
+        yield list(range(many, 0, -1))
+        yield [k * k * 7919 % many for k in range(many)]
+        yield [SIGN_BOUND - 1 - k % 3 for k in range(many)]
+        yield [-(SIGN_BOUND - 1) if k % 5 < 2 else SIGN_BOUND - 1 for k in range(many)]
+        for count in kind_counts:
+            if count < many:
+                # Each kind is there, in an order that is neither rising nor falling.
+                yield [k * 5 % count - 2 for k in range(count)] + mixed_signs(many - count, count, many + count)
+                yield [10 ** 9 * (k * count // many) for k in range(many)]
+
+
+SIGN_BOUND = 10 ** 60
+
+
+class PlainSigns:
+    """A row of signs, with its tables and blocks as a plain walk over each level tells them."""
+
+    def __init__(self, signs):
+        self.signs = list(signs)
+        self.many = len(signs)
+        self.kinds = sorted(set(signs))
+        self.levels = 0
+        while 2 ** self.levels < len(self.kinds):
+            self.levels += 1
+        ranks = {kind: rank for rank, kind in enumerate(self.kinds)}
+        self.rows = [self.level_bits([ranks[sign] for sign in signs], level) for level in range(self.levels)]
+        self.tables = (self.many, tuple(self.kinds), tuple(plain_tables(bits)[1] for bits in self.rows))
+        self.blocks = [block for bits in self.rows for block in plain_blocks(bits)]
+
+    def level_bits(self, ranks, level):
+        """Each level ahead has put the noughts first, so the one just ahead counts most; else the row's order holds."""
+        def bits_ahead(rank):
+            return [self.rank_bit(rank, ahead) for ahead in reversed(range(level))]
+
+        return [self.rank_bit(rank, level) for rank in sorted(ranks, key=bits_ahead)]
+
+    def rank_bit(self, rank, level):
+        return rank // 2 ** (self.levels - 1 - level) % 2
+
+    def no_signs(self):
+        """Whole numbers that no place bears: beside, between and far beyond the signs."""
+        near = {kind + step for kind in self.kinds[:9] + self.kinds[-9:] for step in (-1, 1)}
+        far = {0, 5, SIGN_BOUND, -SIGN_BOUND, GREAT, -GREAT}
+        return sorted((near | far) - set(self.kinds))
+
+
+LETTERS = "abcdefghijklmnopqrstuvwxyz"
+
+
+def mixed_words(nodes, letters, longest, seed):
+    """Words of these letters, as many as a tree of so many nodes has room for when they come one by one."""
+    source = numbers_from(seed)
+    words = []
+    texts = {""}
+    while True:
+        word = "".join(letters[next(source) % len(letters)] for k in range(next(source) % (longest + 1)))
+        texts.update(word[:upto] for upto in range(len(word) + 1))
+        if len(texts) > nodes:
+            return words
+        if word not in words:
+            words.append(word)
+
+
+def full_words():
+    """Words whose tree has just 2,048 nodes: the root, 26 * 40 of the first ones, 25 * 39 of the others, and 32."""
+    return [letter * 40 for letter in LETTERS] + [letter + "z" * 39 for letter in LETTERS[:25]] + ["z" + "a" * 32]
+
+
+def plain_node_count(words):
+    return len({word[:upto] for word in words for upto in range(len(word) + 1)} | {""})
+
+
+def sample_stores():
+    """Lists of words, each in an order of no kind."""
+    yield []
+    yield [""]
+    yield ["a"]
+    yield ["z", ""]
+    yield ["b", "a"]
+    yield ["abc", "ab", "abcd", "b", "abd"]
+    yield ["q" * 40]
+    yield ["q" * 40, "q" * 39, "q"]
+    yield ["a" * 40, "a" * 39 + "z", "z" * 40, "m", "z" * 39 + "a", ""]
+    yield ["a" * k for k in range(40, -1, -3)]
+    yield list(LETTERS[::-1])
+    yield [one + other for one in LETTERS[::3] for other in LETTERS[::-2]]
+    yield mixed_words(33, "ab", 6, 1)
+    yield mixed_words(64, "abz", 5, 2)
+    yield mixed_words(300, "ax", 40, 3)
+    yield mixed_words(700, LETTERS, 3, 4)
+
+
+def great_stores():
+    yield full_words()
+    yield ["z" * deep + letter for deep in range(40) for letter in LETTERS]
+    yield mixed_words(2048, LETTERS, 4, 5)
+    yield mixed_words(2048, "ab", 40, 6)
+
+
+class PlainStore:
+    """A store, with its tree, letters and ends as a plain walk over the sorted beginnings of its words tells them."""
+
+    def __init__(self, words):
+        self.words = sorted(words)
+        self.texts = sorted({word[:upto] for word in words for upto in range(len(word) + 1)} | {""})
+        self.nodes = {text: node for node, text in enumerate(self.texts)}
+        self.depths = [len(text) for text in self.texts]
+        self.letters = [LETTERS.index(text[-1]) for text in self.texts if text]
+        self.ends = [1 if text in words else 0 for text in self.texts]
+        bits = plain_brackets(self.depths)
+        signs = PlainSigns(self.letters)
+        self.tables = (plain_bracket_tables(bits), signs.tables, plain_tables(self.ends))
+        self.blocks = plain_blocks(bits) + signs.blocks + plain_blocks(self.ends)
+
+    def ahead(self, text):
+        return len([word for word in self.words if word < text])
+
+    def stretch(self, text):
+        first = self.ahead(text)
+        return (first, first + len([word for word in self.words if word.startswith(text)]))
+
+    def longest(self, text):
+        return max([word for word in self.words if text.startswith(word)], key=len, default=None)
+
+
+def plain_number_octets(numbers, size):
+    return [octet for number in numbers for octet in number.to_bytes(size, "little")]
+
+
+def plain_row_octets(bits):
+    ahead = plain_tables(bits)[1]
+    return [1] + plain_number_octets([len(bits)], 2) + plain_level_octets(bits, ahead)
+
+
+def plain_level_octets(bits, ahead):
+    return plain_number_octets(plain_blocks(bits), 4) + plain_number_octets(ahead, 2)
+
+
+def plain_tree_octets(depths):
+    bits = plain_brackets(depths)
+    heights = plain_heights(bits)
+    lows = [min(heights[at + 1:at + 33]) for at in range(0, len(bits), 32)]
+    return [2] + plain_row_octets(bits)[1:] + plain_number_octets(lows, 2)
+
+
+def plain_signs_octets(signs):
+    plain = PlainSigns(signs)
+    octets = [3] + plain_number_octets([plain.many, len(plain.kinds)], 2)
+    octets += plain_number_octets([kind + 10 ** 60 for kind in plain.kinds], 26)
+    for bits, ahead in zip(plain.rows, plain.tables[2], strict=True):
+        octets += plain_level_octets(bits, ahead)
+    return octets
+
+
+def plain_store_octets(words):
+    plain = PlainStore(words)
+    return [4] + plain_tree_octets(plain.depths) + plain_signs_octets(plain.letters) + plain_row_octets(plain.ends)

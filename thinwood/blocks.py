@@ -36,13 +36,12 @@ def unpacked(blocks, many):
     return bits[:many]
 
 
+def bit_in(block, k):
+    return (block >> k) & 1
+
+
 def bits_of(block, upto):
-    bits = []
-    rest = block
-    for k in range(upto):
-        bits.append(rest % 2)
-        rest = rest // 2
-    return bits
+    return [bit_in(block, k) for k in range(upto)]
 
 
 def ones_in(block, upto):
@@ -95,3 +94,7 @@ def look_of(blocks):
         return kept[number]
 
     return look
+
+
+def look_from(look, first):
+    return lambda number: look(first + number)

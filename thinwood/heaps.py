@@ -10,7 +10,7 @@ def heap_of(numbers):
         raise TooMany("a heap is made of at most 4,096 numbers")
     size = size_of(len(numbers))
     nodes = [None] * size + list(numbers) + [None] * (size - len(numbers))
-    for node in reversed(range(1, size)):
+    for node in range(size - 1, 0, -1):
         nodes[node] = lesser_of(nodes[2 * node], nodes[2 * node + 1])
     return nodes
 
@@ -59,9 +59,13 @@ def place_beneath(size, look, node, goal, side):
     return found - size
 
 
-def cover(many, start, stop):
+def check_stretch(many, start, stop):
     if not 0 <= start <= stop <= many:
         raise NoPlace("the list has no such stretch")
+
+
+def cover(many, start, stop):
+    check_stretch(many, start, stop)
     size = size_of(many)
     low = size + start
     high = size + stop

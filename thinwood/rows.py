@@ -1,6 +1,6 @@
 """Rows of bits: blocks, and a table of the ones ahead of each block."""
 
-from thinwood.blocks import BLOCK_BITS, bits_of, one_in, ones_in, packed
+from thinwood.blocks import BLOCK_BITS, bit_in, one_in, ones_in, packed
 from thinwood.errors import NoPlace
 
 
@@ -23,7 +23,7 @@ def check_place(at, most):
 
 def bit_at(tables, look, at):
     check_place(at, tables[0] - 1)
-    return bits_of(look(at // BLOCK_BITS), BLOCK_BITS)[at % BLOCK_BITS]
+    return bit_in(look(at // BLOCK_BITS), at % BLOCK_BITS)
 
 
 def ones_at(tables, look, at):
