@@ -43,13 +43,14 @@ class Case(unittest.TestCase):
             self.fail(f"{function.__name__} told {told!r} and did not refuse with {refusal.__name__}")
 
     def answered(self, kept, question, asked_for, answer, most):
-        """The answer, its kind, and the blocks looked at: only such as are there, and no more than told."""
+        """The answer, its kind, and the blocks looked at, which are told: only such as are there, and not too many."""
         look = WatchedLook(kept.blocks)
         told = question(kept.tables, look, *asked_for)
         if told != answer or kinds(told) != kinds(answer):
             self.fail((question.__name__, kept.tables, kept.blocks, asked_for, told, answer))
         if len(look.seen) > most:
             self.fail((question.__name__, kept.tables, kept.blocks, asked_for, f"{len(look.seen)} blocks of {most}"))
+        return look.seen
 
 
 def kinds(value):

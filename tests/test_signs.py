@@ -143,7 +143,10 @@ class KeptSigns(Case):
 
 class Questions(Case):
     def hold(self, row, question, asked_for, answer, most):
-        self.answered(row, question, asked_for, answer, most * row.levels)
+        seen = self.answered(row, question, asked_for, answer, most * row.levels)
+        long = (row.many + 31) // 32
+        for level in {number // long for number in seen}:
+            self.assertLessEqual(len([number for number in seen if number // long == level]), most, question.__name__)
 
     def hold_signs(self, row, places):
         for at in places:
